@@ -205,7 +205,6 @@ func heldToWords(t *testing.T, text []byte, args string, places, counts []int) {
 
 // inLine: P9.2 of From and To.
 func inLine(t *testing.T, text []byte, at int, a answer) {
-	t.Helper()
 	if a.e != api.OK {
 		return
 	}
